@@ -1,0 +1,1 @@
+"""Chargeturns: parts that hold charge, and what joinings of them lead to."""

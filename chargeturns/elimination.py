@@ -1,0 +1,72 @@
+"""Rows of fractions: their plain list, and unknowns told by equations."""
+
+from math import gcd, lcm
+
+from chargeturns.ratios import ZERO, ratio
+
+
+def plain_rows(rows):
+    """The plain list of all sums of multiples of the rows, as a tuple of tuples of fractions."""
+    # Whole numbers without a shared divisor spare a reduction at each step.
+    waiting = [_cleared(row) for row in rows]
+    width = len(waiting[0]) if waiting else 0
+    done = []
+    for column in range(width):
+        leading = [row for row in waiting if row[column] != 0]
+        if leading:
+            pivot = leading[0]
+            # The pivot itself becomes a row of noughts, which never leads again.
+            waiting = [_without(row, pivot, column) for row in waiting]
+            done = [_without(row, pivot, column) for row in done] + [pivot]
+    return tuple([_led_by_one(row) for row in done])
+
+
+def first_place(row):
+    """The place of the first number of a row of fractions that is not 0; some number is not."""
+    place = 0
+    while row[place] == ZERO:
+        place += 1
+    return place
+
+
+def solution(equations, many):
+    """Any fractions for so many unknowns with which all equations hold, where there are some.
+
+    An equation is a row: a number for each unknown, and what these times the unknowns add up to.
+    """
+    found = [ZERO] * many
+    for row in plain_rows(equations):
+        found[first_place(row)] = row[-1]
+    return found
+
+
+def _cleared(row):
+    """The least multiple in whole numbers of a row of fractions."""
+    scale = 1
+    for number in row:
+        scale = lcm(scale, number[1])
+    return _least([top * (scale // bottom) for top, bottom in row])
+
+
+def _least(row):
+    """The row of whole numbers less the divisor that all of them share."""
+    shared = 0
+    for number in row:
+        shared = gcd(shared, number)
+    if shared < 2:
+        return row
+    return [number // shared for number in row]
+
+
+def _without(row, pivot, column):
+    """A multiple of the row, less one of the pivot, that has 0 in the column."""
+    own, its = row[column], pivot[column]
+    if own == 0:
+        return row
+    return _least([number * its - other * own for number, other in zip(row, pivot)])
+
+
+def _led_by_one(row):
+    """The multiple of a row of whole numbers whose first number but 0 is 1, as fractions."""
+    first = [number for number in row if number != 0][0]
+    return tuple([ratio(number, first) for number in row])
