@@ -1,6 +1,7 @@
 """Circuits and standings for the tests, and what is known of them without the program."""
 
 import random
+import unittest
 from fractions import Fraction
 
 from chargeturns.circuits import Circuit
@@ -228,3 +229,13 @@ NO_FRACTIONS = [
     0, 1, True, None, "1", "1/2", (), (1,), (1, 2, 3), [1, 2], (2, 4), (0, 2), (1, 0), (0, 0), (1, -1), (-1, -2),
     (True, 1), (1, True), (False, True), (1, "2"), ("1", 2), ((1, 1), 1), (None, 1), (1, None), {}, ((1, 1),),
 ]
+
+
+class Refusing(unittest.TestCase):
+    """A case of tests that also asks for an error with the very value that it has to tell."""
+
+    def refused(self, error, value, function, *told):
+        with self.assertRaises(error) as caught:
+            function(*told)
+        self.assertIs(type(caught.exception), error)
+        self.assertIs(caught.exception.value, value)

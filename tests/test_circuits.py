@@ -5,7 +5,7 @@ import unittest
 from chargeturns.checks import is_name
 from chargeturns.circuits import Circuit, grounded, with_size, with_source
 from chargeturns.errors import BadCircuit, BadSize, BadVoltage, NoPart, NoSource
-from tests.making import NO_FRACTIONS, pair, parted, some_circuit, text_of
+from tests.making import NO_FRACTIONS, Refusing, pair, parted, some_circuit, text_of
 
 PUMP = [
     "circuit", "source v 5", "part c 1", "part d 1/2", "joining fill", "tie c v gnd",
@@ -249,7 +249,7 @@ class Names(unittest.TestCase):
         self.assertFalse(any(is_name(value) for value in (None, 0, True, (), ("a",), ["a"], {"a": 1}, b"a")))
 
 
-class Others(unittest.TestCase):
+class Others(Refusing):
     def setUp(self):
         self.lines = PUMP[:2] + ["source low -1/3"] + PUMP[2:]
         self.circuit = Circuit("\n".join(self.lines))
@@ -302,12 +302,6 @@ class Others(unittest.TestCase):
             flat = [(name, 0) for name, _ in sources]
             self.assertEqual(grounded(circuit).text, text_of(flat, parts, joinings))
             self.assertEqual(grounded(circuit).sources, tuple((name, pair(0)) for name, _ in sources))
-
-    def refused(self, error, value, function, *told):
-        with self.assertRaises(error) as caught:
-            function(*told)
-        self.assertIs(type(caught.exception), error)
-        self.assertIs(caught.exception.value, value)
 
     def test_no_part_and_no_source(self):
         for value in ("v", "fill", "x", "gnd", "", "C", "c ", None, 0, True, (), ("c",), ["c"], {"c": 1}, self.circuit):

@@ -9,8 +9,8 @@ from chargeturns.joinings import (
     does_fit, either_way, flow, joined, lost, potentials, shows_either_way, shows_potentials, square,
 )
 from tests.making import (
-    NO_FRACTIONS, all_cases, any_values, came_to_junctions, charges_between, fractions_of, free_of, is_told_fraction,
-    pair, row, some_circuit, some_fraction, some_standing, spread_potentials, square_between, square_of,
+    NO_FRACTIONS, Refusing, all_cases, any_values, came_to_junctions, charges_between, fractions_of, free_of,
+    is_told_fraction, pair, row, some_circuit, some_fraction, some_standing, spread_potentials, square_between, square_of,
     standing_that_fits,
 )
 
@@ -370,13 +370,7 @@ NO_ROWS = [
 ] + [((0, 1), value) for value in NO_FRACTIONS] + [(value, (0, 1)) for value in NO_FRACTIONS]
 
 
-class Wrong(unittest.TestCase):
-    def refused(self, error, value, function, *told):
-        with self.assertRaises(error) as caught:
-            function(*told)
-        self.assertIs(type(caught.exception), error)
-        self.assertIs(caught.exception.value, value)
-
+class Wrong(Refusing):
     def test_no_joining(self):
         for value in NO_JOININGS:
             for function in (does_fit, joined, flow, lost, potentials):
