@@ -1,11 +1,12 @@
-"""What values have to be: names, rows, standings; and the errors where they are not."""
+"""What values have to be: names, rows, standings, scripts, answers; and the errors where they are not."""
 
-from chargeturns.errors import BadRow, BadStanding, NoJoining, NoPart, NoSource
+from chargeturns.errors import BadRow, BadScript, BadStanding, Empty, NoJoining, NoPart, NoSource
 from chargeturns.ratios import is_fraction
 
 GROUND = "gnd"
 LETTERS = "abcdefghijklmnopqrstuvwxyz"
 LONGEST_NAME = 6
+LONGEST_SCRIPT = 40
 
 
 def is_name(value):
@@ -25,6 +26,11 @@ def is_row(circuit, value):
     if not isinstance(value, tuple) or len(value) != len(circuit.parts):
         return False
     return all([is_fraction(number) for number in value])
+
+
+def is_answer(value, word, many):
+    """Whether the value is a tuple of so many that begins with the word."""
+    return isinstance(value, tuple) and len(value) == many and value[0] == word
 
 
 def check_row(circuit, value):
@@ -55,3 +61,20 @@ def check_source(circuit, value):
     """Raises NoSource unless the value is the name of a source."""
     if value not in names_of(circuit.sources):
         raise NoSource(value)
+
+
+def check_script(circuit, value):
+    """Raises BadScript unless the value is a script: with the number of its first wrong part, or with None."""
+    if not isinstance(value, tuple) or len(value) > LONGEST_SCRIPT:
+        raise BadScript(None)
+    names = names_of(circuit.joinings)
+    for number, part in enumerate(value):
+        if part not in names:
+            raise BadScript(number)
+
+
+def check_round(circuit, value):
+    """Raises BadScript unless the value is a script, Empty if it has no joinings."""
+    check_script(circuit, value)
+    if not value:
+        raise Empty(None)

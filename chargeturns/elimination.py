@@ -1,8 +1,8 @@
-"""Rows of fractions: their plain list, and unknowns told by equations."""
+"""Rows of fractions: plain lists of spaces of them, and unknowns told by equations."""
 
 from math import gcd, lcm
 
-from chargeturns.ratios import ZERO, ratio
+from chargeturns.ratios import ONE, ZERO, minus, ratio
 
 
 def plain_rows(rows):
@@ -21,6 +21,12 @@ def plain_rows(rows):
     return tuple([_led_by_one(row) for row in done])
 
 
+def null_rows(rows, many):
+    """The plain list of all rows of so many numbers that, times each of these rows, add up to 0."""
+    leading = {first_place(row): row for row in plain_rows(rows)}
+    return plain_rows([_null_row(leading, place, many) for place in range(many) if place not in leading])
+
+
 def first_place(row):
     """The place of the first number of a row of fractions that is not 0; some number is not."""
     place = 0
@@ -30,13 +36,26 @@ def first_place(row):
 
 
 def solution(equations, many):
-    """Any fractions for so many unknowns with which all equations hold, where there are some.
+    """Any fractions for so many unknowns with which all equations hold; None if there are none.
 
     An equation is a row: a number for each unknown, and what these times the unknowns add up to.
     """
     found = [ZERO] * many
     for row in plain_rows(equations):
-        found[first_place(row)] = row[-1]
+        place = first_place(row)
+        # A row without unknowns asks that 0 be 1.
+        if place == many:
+            return None
+        found[place] = row[-1]
+    return found
+
+
+def _null_row(leading, place, many):
+    """The row with 1 at this place and 0 at others that lead no row: its other numbers follow from these rows."""
+    found = [ZERO] * many
+    found[place] = ONE
+    for at, row in leading.items():
+        found[at] = minus(ZERO, row[place])
     return found
 
 

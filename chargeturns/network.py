@@ -1,4 +1,4 @@
-"""Junctions of a joining, and the potentials that charge comes to there."""
+"""Junctions of a joining: their potentials, and the charge that comes to them."""
 
 from chargeturns.checks import GROUND
 from chargeturns.elimination import solution
@@ -28,6 +28,24 @@ def free_junctions(circuit, ties):
 def tied_voltages(ties, potential):
     """The voltages of all tied parts, by name, that the potentials, by junction, give them."""
     return {part: minus(potential[plus], potential[less]) for part, plus, less in ties}
+
+
+def standing_at(circuit, ties, potential, standing):
+    """The standing with tied parts' voltages by the potentials, and all others as they are."""
+    voltage = tied_voltages(ties, potential)
+    return tuple([voltage.get(name, ahead) for (name, _), ahead in zip(circuit.parts, standing)])
+
+
+def came_to(circuit, joining, charges, junction):
+    """What comes to the junction of the joining when these charges come to the parts."""
+    charge = {name: number for (name, _), number in zip(circuit.parts, charges)}
+    return total([times((_side(tie, junction), 1), charge[tie[0]]) for tie in ties_of(circuit, joining)])
+
+
+def drawn(circuit, joining, charges):
+    """What comes to the junctions of all sources, each times its voltage."""
+    given = [times(voltage, came_to(circuit, joining, charges, source)) for source, voltage in circuit.sources]
+    return total(given)
 
 
 def settled_potentials(circuit, ties, standing):

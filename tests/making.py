@@ -132,6 +132,61 @@ def some_circuit(seed):
     return Circuit(text_of(sources, parts, joinings))
 
 
+PUMPING = [ties_to_given, ties_side_by_side, ties_in_a_row, ties_anyhow]
+
+
+def some_pump(seed):
+    """A circuit with sources whose joinings tie two or three parts each, so that charge goes on from part to part."""
+    dice = random.Random(9000 + seed)
+    sources = [(name, some_fraction(dice)) for name in dice.sample(SOURCE_NAMES, 1 + seed % 4)]
+    parts = [(name, some_size(dice)) for name in dice.sample(PART_NAMES, dice.randint(1, 8))]
+    given = ["gnd"] + [name for name, _ in sources]
+    joinings = []
+    for k, name in enumerate(dice.sample(JOINING_NAMES, 1 + seed % 6)):
+        few = [part for part, _ in dice.sample(parts, min(len(parts), dice.randint(1, 3)))]
+        joinings.append((name, some_ties(dice, PUMPING[k % len(PUMPING)], few, given)))
+    return Circuit(text_of(sources, parts, joinings))
+
+
+def some_script(dice, circuit, many):
+    """A script of so many joinings of the circuit, taken at random, one perhaps again and again."""
+    return tuple(dice.choice(circuit.joinings)[0] for _ in range(many))
+
+
+def circuits_of_both_kinds(many):
+    """So many circuits of all shapes, and as many whose joinings move charge from part to part."""
+    return [some_circuit(seed) for seed in range(many)] + [some_pump(seed) for seed in range(many)]
+
+
+def called_otherwise(circuit):
+    """The circuit with other names for all free junctions, joining by joining."""
+    sources, parts, joinings = parted(circuit)
+    called = []
+    for k, (joining, ties) in enumerate(joinings):
+        free = free_of(circuit, ties)
+        new = dict(zip(reversed(free), [f"{'qjkzyx'[k]}{letter}q" for letter in "abcdefghijklmnop"]))
+        called.append((joining, [(part, new.get(plus, plus), new.get(less, less)) for part, plus, less in ties]))
+    return Circuit(text_of(sources, parts, called))
+
+
+def some_signs(dice, circuit):
+    return [dice.choice((1, -1)) for _ in circuit.parts]
+
+
+def turned_about(circuit, signs):
+    """The circuit with both ends exchanged everywhere of the parts that have the sign -1."""
+    sources, parts, joinings = parted(circuit)
+    sign = dict(zip([name for name, _ in parts], signs))
+    turned = []
+    for joining, ties in joinings:
+        turned.append((joining, [tie if sign[tie[0]] == 1 else (tie[0], tie[2], tie[1]) for tie in ties]))
+    return Circuit(text_of(sources, parts, turned))
+
+
+def with_signs(signs, standing):
+    return row(*[sign * number for sign, number in zip(signs, fractions_of(standing))])
+
+
 def some_standing(dice, circuit):
     return tuple(pair(some_fraction(dice)) for _ in circuit.parts)
 
@@ -218,6 +273,7 @@ def is_told_fraction(value):
 def any_values(circuit):
     """Values of any kind that can be handed in as value."""
     simple = [0, 1, -1, 2, True, False, None, "", "alike", "unlike", "gnd", (), [], {}, circuit, ValueError(1)]
+    simple += ["rest", "lot", "kept", "changed", "one", "apart", "fixed", "hangs"]
     nested = [(value,) for value in simple] + [[value] for value in simple]
     nested += [("alike", value) for value in simple] + [("unlike", value) for value in simple]
     nested += [("unlike", ((0, 1),)), ("unlike", [(0, 1)]), (("m", (0, 1)),), {"m": (0, 1)}, ("alike", "alike")]
@@ -225,10 +281,51 @@ def any_values(circuit):
     return simple + nested
 
 
+def bent(value, circuit):
+    """Values that are the right one but for one place, at any depth, where something has another form or kind."""
+    yield from [None, [value], {0: value}, circuit]
+    if isinstance(value, tuple):
+        yield from [list(value), value + (None,), (value,), dict(enumerate(value))]
+        if value:
+            yield from [value[:-1], value + value[-1:]]
+        if len(value) == 2 and isinstance(value[0], int):
+            yield from bent_fractions(*value)
+        for at, item in enumerate(value):
+            for other in bent(item, circuit):
+                yield value[:at] + (other,) + value[at + 1:]
+    elif isinstance(value, str):
+        yield from [value + "s", value.upper(), "", (value,), 0, True]
+    else:
+        yield from [str(value), (value,), True, False]
+
+
+def bent_fractions(top, bottom):
+    yield from [(2 * top, 2 * bottom), (-top, -bottom), (top, 0), (top, -bottom), (top, bottom, 1), (top,), top]
+
+
 NO_FRACTIONS = [
     0, 1, True, None, "1", "1/2", (), (1,), (1, 2, 3), [1, 2], (2, 4), (0, 2), (1, 0), (0, 0), (1, -1), (-1, -2),
     (True, 1), (1, True), (False, True), (1, "2"), ("1", 2), ((1, 1), 1), (None, 1), (1, None), {}, ((1, 1),),
 ]
+
+# Of a circuit of two parts.
+NO_ROWS_OF_TWO = [
+    None, 0, True, "", "ab", (), row(1), row(1, 1, 1), list(row(1, 1)), ([1, 1], (1, 1)), (1, 1), {},
+    Circuit("circuit\npart a 1\npart b 1\njoining j"),
+] + [((1, 1), value) for value in NO_FRACTIONS] + [(value, (1, 1)) for value in NO_FRACTIONS]
+
+
+def wrong_scripts(joining, circuit):
+    """What is no script, with the number to be told, of a circuit with this joining, but with none called x."""
+    for script in (None, 0, True, "", joining, [joining], [], {}, {joining: 1}, circuit):
+        yield script, None
+    for script in ((joining,) * 41, (None,) * 41, (joining,) * 100):
+        yield script, None
+    no_names = ["x", "gnd", "", joining.upper(), joining + " ", None, 0, 1, True, (), (joining,), [joining], {}]
+    for name in no_names + [circuit] + [told for told, _ in circuit.sources + circuit.parts]:
+        yield (name,), 0
+        yield (joining, name, joining, "x"), 1
+        yield (joining,) * 39 + (name,), 39
 
 
 class Refusing(unittest.TestCase):
@@ -239,3 +336,17 @@ class Refusing(unittest.TestCase):
             function(*told)
         self.assertIs(type(caught.exception), error)
         self.assertIs(caught.exception.value, value)
+
+    def refused_as_told(self, error, value, function, *told):
+        """The same where the value is not one that was handed in, but equal to it."""
+        with self.assertRaises(error) as caught:
+            function(*told)
+        self.assertIs(type(caught.exception), error)
+        self.assertEqual(caught.exception.value, value)
+        self.assertIs(type(caught.exception.value), type(value))
+
+    def refused_values(self, right, circuit, function, *told):
+        """Takes the right value, and refuses each bent one."""
+        self.assertIs(function(*told, right), True)
+        for value in bent(right, circuit):
+            self.assertIs(function(*told, value), False, value)

@@ -5,12 +5,13 @@ import pathlib
 import unittest
 
 HERE = pathlib.Path(__file__).parent
+SECTIONS = ["circuits", "cycles", "errors", "joinings", "rests", "scripts", "sums"]
 EXAMPLES = sorted((HERE / "examples").glob("*.txt"))
 
 
 class Examples(unittest.TestCase):
     def test_all_examples(self):
-        self.assertEqual([path.stem for path in EXAMPLES], ["circuits", "errors", "joinings"])
+        self.assertEqual([path.stem for path in EXAMPLES], SECTIONS)
         for path in EXAMPLES + [HERE.parent / "README.md"]:
             with self.subTest(section=path.stem):
                 failed, tried = doctest.testfile(str(path), module_relative=False)

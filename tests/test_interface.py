@@ -21,6 +21,37 @@ FUNCTIONS = {
         "either_way": ["circuit", "first", "second"],
         "shows_either_way": ["circuit", "first", "second", "value"],
     },
+    "sums": {
+        "directions": ["circuit", "joining"],
+        "kept_rows": ["circuit"],
+        "sum_of": ["circuit", "row", "standing"],
+        "is_kept": ["circuit", "row"],
+        "shows_is_kept": ["circuit", "row", "value"],
+    },
+    "rests": {
+        "any_rest": ["circuit"],
+        "shows_any_rest": ["circuit", "value"],
+        "draws": ["circuit", "lot"],
+        "rest": ["circuit", "standing"],
+        "left": ["circuit", "standing"],
+        "one_rest": ["circuit", "one", "other"],
+        "shows_one_rest": ["circuit", "one", "other", "value"],
+        "hangs": ["circuit", "part"],
+        "shows_hangs": ["circuit", "part", "value"],
+    },
+    "scripts": {
+        "behind": ["circuit", "script", "standing"],
+        "run": ["circuit", "script", "standing"],
+        "losses": ["circuit", "script", "standing"],
+        "apart": ["circuit", "script", "one", "other"],
+    },
+    "cycles": {
+        "own_kept": ["circuit", "script"],
+        "cycle": ["circuit", "script", "standing"],
+        "shows_cycle": ["circuit", "script", "standing", "value"],
+        "lost_in_cycle": ["circuit", "script"],
+        "supplied": ["circuit", "script"],
+    },
 }
 
 

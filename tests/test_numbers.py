@@ -4,7 +4,7 @@ import random
 import unittest
 from fractions import Fraction
 
-from chargeturns.elimination import plain_rows, solution
+from chargeturns.elimination import null_rows, plain_rows, solution
 from chargeturns.ratios import (
     fraction_text, is_above_nought, is_fraction, is_integer, minus, plus, ratio, read_fraction, times, total,
 )
@@ -89,7 +89,28 @@ class Rows(unittest.TestCase):
             told = fractions_of(found)
             self.assertEqual([sum(a * b for a, b in zip(left, told)) for left in rows], sums)
         self.assertEqual(solution([], 0), [])
+        self.assertEqual(solution([], 2), [(0, 1), (0, 1)])
         self.assertEqual([Fraction(*number) for number in solution([row(2, 3)], 1)], [Fraction(3, 2)])
+
+    def test_no_solution(self):
+        self.assertIsNone(solution([row(1, 1), row(1, 2)], 1))
+        self.assertIsNone(solution([row(0, 0, 3)], 2))
+        self.assertIsNone(solution([row(1, 1, 1), row(2, -1, 0), row(3, 0, "1/2")], 2))
+        self.assertEqual(solution([row(0, 0, 0)], 2), [(0, 1), (0, 1)])
+
+    def test_null_rows(self):
+        for seed in range(300):
+            rows = self.some_rows(random.Random(seed))
+            many = len(rows[0])
+            told = null_rows([row(*numbers) for numbers in rows], many)
+            self.assertEqual(plain_rows(told), told)
+            for numbers in told:
+                self.assertTrue(all(is_told_fraction(number) for number in numbers))
+                products = [sum(a * b for a, b in zip(left, fractions_of(numbers))) for left in rows]
+                self.assertEqual(products, [0] * len(rows))
+            self.assertEqual(len(told), many - len(plain_rows([row(*numbers) for numbers in rows])))
+        self.assertEqual(null_rows([], 2), (row(1, 0), row(0, 1)))
+        self.assertEqual(null_rows([row(1, 2), row(0, 3)], 2), ())
 
 
 if __name__ == "__main__":
