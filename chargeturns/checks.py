@@ -1,7 +1,7 @@
-"""What values have to be: names, rows, standings, scripts, answers; and the errors where they are not."""
+"""What values have to be: names, rows, standings, scripts, sizes, answers; and the errors where they are not."""
 
-from chargeturns.errors import BadRow, BadScript, BadStanding, Empty, NoJoining, NoPart, NoSource
-from chargeturns.ratios import is_fraction
+from chargeturns.errors import BadRow, BadScript, BadSeen, BadSizes, BadStanding, Empty, NoJoining, NoPart, NoSource
+from chargeturns.ratios import is_above_nought, is_fraction
 
 GROUND = "gnd"
 LETTERS = "abcdefghijklmnopqrstuvwxyz"
@@ -26,6 +26,19 @@ def is_row(circuit, value):
     if not isinstance(value, tuple) or len(value) != len(circuit.parts):
         return False
     return all([is_fraction(number) for number in value])
+
+
+def is_script(circuit, value):
+    """Whether the value is a script: a tuple, not too long, of names of joinings."""
+    if not isinstance(value, tuple) or len(value) > LONGEST_SCRIPT:
+        return False
+    names = names_of(circuit.joinings)
+    return all([part in names for part in value])
+
+
+def is_sizes(circuit, value):
+    """Whether the value is a table of sizes: a fraction above 0 for each part."""
+    return is_row(circuit, value) and all([is_above_nought(number) for number in value])
 
 
 def is_answer(value, word, many):
@@ -78,3 +91,17 @@ def check_round(circuit, value):
     check_script(circuit, value)
     if not value:
         raise Empty(None)
+
+
+def check_seen(circuit, value):
+    """Raises BadSeen unless the value is a tuple of unlike names of parts, as the parts stand."""
+    if not isinstance(value, tuple):
+        raise BadSeen(value)
+    if list(value) != [name for name in names_of(circuit.parts) if name in value]:
+        raise BadSeen(value)
+
+
+def check_sizes(circuit, value):
+    """Raises BadSizes unless the value is a table of sizes."""
+    if not is_sizes(circuit, value):
+        raise BadSizes(value)

@@ -5,9 +5,10 @@ from chargeturns.elimination import solution
 from chargeturns.joinings import flow
 from chargeturns.network import came_to
 from chargeturns.ratios import total
-from chargeturns.rows import corners, difference, noughts
+from chargeturns.rows import noughts
 from chargeturns.scripts import behind, losses, run
 from chargeturns.spaces import kept_by, sum_equations
+from chargeturns.turning import steady_equations
 
 
 def own_kept(circuit, script):
@@ -20,8 +21,9 @@ def cycle(circuit, script, standing):
     """The steady cycle in which all rows that the script keeps have the same sums as in the standing."""
     check_round(circuit, script)
     check_standing(circuit, standing)
+    start = behind(circuit, script, noughts(len(circuit)))
     sums = sum_equations(circuit, kept_by(circuit, script), standing)
-    first = tuple(solution(_round_equations(circuit, script) + sums, len(circuit)))
+    first = tuple(solution(steady_equations(circuit, script, start) + sums, len(circuit)))
     return run(circuit, script[:-1], first)
 
 
@@ -53,12 +55,3 @@ def supplied(circuit, script):
 def _some_cycle(circuit, script):
     """Any steady cycle of the script: all of them lose and give the same."""
     return cycle(circuit, script, noughts(len(circuit)))
-
-
-def _round_equations(circuit, script):
-    """Equations that hold for just the voltages that one round leads back to themselves."""
-    many = len(circuit)
-    start = behind(circuit, script, noughts(many))
-    # A round is a straight map: where it leads noughts and each part alone tells where it leads all else.
-    moved = [difference(corner, difference(behind(circuit, script, corner), start)) for corner in corners(many)]
-    return [[row[place] for row in moved] + [start[place]] for place in range(many)]

@@ -8,7 +8,7 @@ from chargeturns.ratios import ONE, ZERO, minus, ratio
 def plain_rows(rows):
     """The plain list of all sums of multiples of the rows, as a tuple of tuples of fractions."""
     # Whole numbers without a shared divisor spare a reduction at each step.
-    waiting = [_cleared(row) for row in rows]
+    waiting = [cleared(row) for row in rows]
     width = len(waiting[0]) if waiting else 0
     done = []
     for column in range(width):
@@ -16,8 +16,8 @@ def plain_rows(rows):
         if leading:
             pivot = leading[0]
             # The pivot itself becomes a row of noughts, which never leads again.
-            waiting = [_without(row, pivot, column) for row in waiting]
-            done = [_without(row, pivot, column) for row in done] + [pivot]
+            waiting = [without(row, pivot, column) for row in waiting]
+            done = [without(row, pivot, column) for row in done] + [pivot]
     return tuple([_led_by_one(row) for row in done])
 
 
@@ -50,6 +50,22 @@ def solution(equations, many):
     return found
 
 
+def cleared(row):
+    """The least multiple in whole numbers of a row of fractions."""
+    scale = 1
+    for number in row:
+        scale = lcm(scale, number[1])
+    return _least([top * (scale // bottom) for top, bottom in row])
+
+
+def without(row, pivot, column):
+    """A multiple of the row, less one of the pivot, that has 0 in the column."""
+    own, its = row[column], pivot[column]
+    if own == 0:
+        return row
+    return _least([number * its - other * own for number, other in zip(row, pivot)])
+
+
 def _null_row(leading, place, many):
     """The row with 1 at this place and 0 at others that lead no row: its other numbers follow from these rows."""
     found = [ZERO] * many
@@ -57,14 +73,6 @@ def _null_row(leading, place, many):
     for at, row in leading.items():
         found[at] = minus(ZERO, row[place])
     return found
-
-
-def _cleared(row):
-    """The least multiple in whole numbers of a row of fractions."""
-    scale = 1
-    for number in row:
-        scale = lcm(scale, number[1])
-    return _least([top * (scale // bottom) for top, bottom in row])
 
 
 def _least(row):
@@ -75,14 +83,6 @@ def _least(row):
     if shared < 2:
         return row
     return [number // shared for number in row]
-
-
-def _without(row, pivot, column):
-    """A multiple of the row, less one of the pivot, that has 0 in the column."""
-    own, its = row[column], pivot[column]
-    if own == 0:
-        return row
-    return _least([number * its - other * own for number, other in zip(row, pivot)])
 
 
 def _led_by_one(row):

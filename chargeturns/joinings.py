@@ -18,7 +18,7 @@ def joined(circuit, joining, standing):
     check_joining(circuit, joining)
     check_standing(circuit, standing)
     ties = ties_of(circuit, joining)
-    return standing_at(circuit, ties, settled_potentials(circuit, ties, standing), standing)
+    return standing_at(circuit, ties, settled_potentials(circuit, ties, standing, {}), standing)
 
 
 def flow(circuit, joining, standing):
@@ -44,7 +44,7 @@ def potentials(circuit, joining, standing):
     check_joining(circuit, joining)
     check_standing(circuit, standing)
     ties = ties_of(circuit, joining)
-    potential = settled_potentials(circuit, ties, standing)
+    potential = settled_potentials(circuit, ties, standing, {})
     if standing_at(circuit, ties, potential, standing) != standing:
         raise Unfit(standing)
     return tuple([(junction, potential[junction]) for junction in free_junctions(circuit, ties)])

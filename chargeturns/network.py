@@ -25,6 +25,17 @@ def free_junctions(circuit, ties):
     return sorted({junction for junction in named if junction not in given})
 
 
+def hanging_junctions(circuit, ties):
+    """The ground, all sources, and the free junctions from which ties lead to one of these."""
+    reached = {junction: True for junction in given_potentials(circuit)}
+    # As long as one more can be reached, each time round the ties reaches one.
+    for _ in ties:
+        for _, plus, less in ties:
+            if plus in reached or less in reached:
+                reached[plus] = reached[less] = True
+    return list(reached)
+
+
 def tied_voltages(ties, potential):
     """The voltages of all tied parts, by name, that the potentials, by junction, give them."""
     return {part: minus(potential[plus], potential[less]) for part, plus, less in ties}
@@ -48,17 +59,20 @@ def drawn(circuit, joining, charges):
     return total(given)
 
 
-def settled_potentials(circuit, ties, standing):
-    """The potentials of all junctions, by name, at which no charge comes to any free one."""
+def settled_potentials(circuit, ties, standing, taken):
+    """The potentials of all junctions, by name, at which to each free one comes less what is taken there.
+
+    What is taken is told by junction, as a dict; at junctions that it does not name it is nothing.
+    """
     free = free_junctions(circuit, ties)
     potential = given_potentials(circuit)
-    equations = _charge_equations(circuit, ties, standing, free)
+    equations = _charge_equations(circuit, ties, standing, free, taken)
     for junction, number in zip(free, solution(equations, len(free))):
         potential[junction] = number
     return potential
 
 
-def _charge_equations(circuit, ties, standing, free):
+def _charge_equations(circuit, ties, standing, free, taken):
     """For each free junction: what its potential and the others' must make up for at its parts."""
     size = dict(circuit.parts)
     ahead = {name: voltage for (name, _), voltage in zip(circuit.parts, standing)}
@@ -69,7 +83,7 @@ def _charge_equations(circuit, ties, standing, free):
         near = [tie for tie in ties if junction in tie[1:]]
         row = [total([_weight(tie, junction, other, size) for tie in near]) for other in free]
         made_up = [times((_side(tie, junction), 1), lacking[tie[0]]) for tie in near]
-        equations.append(row + [total(made_up)])
+        equations.append(row + [minus(total(made_up), taken.get(junction, ZERO))])
     return equations
 
 

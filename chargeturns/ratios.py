@@ -4,7 +4,11 @@ from math import gcd
 
 ZERO = (0, 1)
 ONE = (1, 1)
+HALF = (1, 2)
 DIGITS = "0123456789"
+# Python itself writes and reads integers of a few thousand digits at most, so they go piece by piece.
+PIECE = 18
+SHIFT = 1000000000000000000
 
 
 def is_integer(value):
@@ -25,6 +29,16 @@ def is_fraction(value):
 def is_above_nought(value):
     """Whether the value is a fraction above 0."""
     return is_fraction(value) and value[0] > 0
+
+
+def is_rate(value):
+    """Whether the value is a fraction from 0 on."""
+    return is_fraction(value) and value[0] >= 0
+
+
+def is_less(one, other):
+    """Whether the first fraction is below the other."""
+    return one[0] * other[1] < other[0] * one[1]
 
 
 def ratio(top, bottom):
@@ -62,8 +76,8 @@ def fraction_text(number):
     """The fraction as texts write it: TOP, or TOP/BOTTOM."""
     top, bottom = number
     if bottom == 1:
-        return str(top)
-    return f"{top}/{bottom}"
+        return _integer_text(top)
+    return f"{_integer_text(top)}/{_integer_text(bottom)}"
 
 
 def read_fraction(word):
@@ -72,14 +86,22 @@ def read_fraction(word):
     if not _is_integer_text(top):
         return None
     if stroke == "":
-        return (int(top), 1)
+        return (_read_integer(top), 1)
     if not _is_integer_text(bottom):
         return None
-    number = (int(top), int(bottom))
+    number = (_read_integer(top), _read_integer(bottom))
     # A bottom of 1 is not written, so it is refused where it is.
     if number[1] > 1 and is_fraction(number):
         return number
     return None
+
+
+def read_row(words):
+    """The tuple of the fractions that the words tell; None if there is no word, or one tells none."""
+    numbers = tuple([read_fraction(word) for word in words])
+    if numbers == () or None in numbers:
+        return None
+    return numbers
 
 
 def _is_integer_text(word):
@@ -88,3 +110,23 @@ def _is_integer_text(word):
     if digits == "" or not all([sign in DIGITS for sign in digits]):
         return False
     return digits[0] != "0" or word == "0"
+
+
+def _integer_text(number):
+    """The integer as Python writes it."""
+    high, pieces = abs(number), []
+    while high >= SHIFT:
+        high, low = divmod(high, SHIFT)
+        pieces.append(str(low).zfill(PIECE))
+    sign = "-" if number < 0 else ""
+    return sign + str(high) + "".join(reversed(pieces))
+
+
+def _read_integer(word):
+    """The integer that a word tells as Python writes it."""
+    digits = word[1:] if word[:1] == "-" else word
+    padded = "0" * (-len(digits) % PIECE) + digits
+    number = 0
+    for start in range(0, len(padded), PIECE):
+        number = number * SHIFT + int(padded[start:start + PIECE])
+    return -number if word[:1] == "-" else number

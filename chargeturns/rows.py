@@ -26,3 +26,9 @@ def inner(row, other):
 def charges(circuit, row):
     """For each part its size times its number."""
     return tuple([times(size, number) for (_, size), number in zip(circuit.parts, row)])
+
+
+def put_together(factors, rows):
+    """The rows, each times its factor, an integer, added up; there is one row at least."""
+    numbers = [[times((factor, 1), number) for number in row] for factor, row in zip(factors, rows)]
+    return tuple([total([told[place] for told in numbers]) for place in range(len(rows[0]))])

@@ -23,14 +23,14 @@ def run(circuit, script, standing):
 def losses(circuit, script, standing):
     """The square that is lost at each joining of the script."""
     standings = run(circuit, script, standing)
-    return _squares_between(circuit, standings, standings[1:])
+    return squares_between(circuit, standings, standings[1:])
 
 
 def apart(circuit, script, one, other):
     """The squares of the differences of both runs, at first and behind each joining."""
-    return _squares_between(circuit, run(circuit, script, one), run(circuit, script, other))
+    return squares_between(circuit, run(circuit, script, one), run(circuit, script, other))
 
 
-def _squares_between(circuit, standings, others):
+def squares_between(circuit, standings, others):
     """The squares of the differences, as far as both go."""
     return tuple([square(circuit, difference(one, other)) for one, other in zip(standings, others)])

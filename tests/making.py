@@ -4,7 +4,9 @@ import random
 import unittest
 from fractions import Fraction
 
+from chargeturns.bench import Bench
 from chargeturns.circuits import Circuit
+from chargeturns.desk import Desk
 
 PART_NAMES = ["a", "b", "cc", "d", "east", "f", "gg", "hihihi"]
 SOURCE_NAMES = ["v", "a", "low", "up"]
@@ -148,6 +150,21 @@ def some_pump(seed):
     return Circuit(text_of(sources, parts, joinings))
 
 
+def some_sharing(seed):
+    """A circuit of two to eight parts, each joining of which lets a few of them share, or empties one, or fills it."""
+    dice = random.Random(7000 + seed)
+    sources = [("v", some_fraction(dice))][:seed % 2]
+    parts = [(name, some_size(dice)) for name in dice.sample(PART_NAMES, 2 + seed % 7)]
+    names, joinings = [name for name, _ in parts], []
+    for k, name in enumerate(dice.sample(JOINING_NAMES, 2 + seed % 5)):
+        chosen = dice.sample(names, min(len(names), dice.randint(2, 4)))
+        ties = [(part, "m", "gnd") for part in chosen]
+        if k % 3 == 1:
+            ties = [(dice.choice(names), dice.choice(["gnd", sources[0][0] if sources else "n"]), "gnd")]
+        joinings.append((name, ties))
+    return Circuit(text_of(sources, parts, joinings))
+
+
 def some_script(dice, circuit, many):
     """A script of so many joinings of the circuit, taken at random, one perhaps again and again."""
     return tuple(dice.choice(circuit.joinings)[0] for _ in range(many))
@@ -270,20 +287,25 @@ def is_told_fraction(value):
     return value[1] > 0 and pair(Fraction(*value)) == value
 
 
-def any_values(circuit):
-    """Values of any kind that can be handed in as value."""
+SMALL = "circuit\npart a 1\njoining j"
+
+
+def any_values(circuit, *words):
+    """Values of any kind that can be handed in as value; among them such with these words."""
     simple = [0, 1, -1, 2, True, False, None, "", "alike", "unlike", "gnd", (), [], {}, circuit, ValueError(1)]
-    simple += ["rest", "lot", "kept", "changed", "one", "apart", "fixed", "hangs"]
+    simple += list(words) or ["rest", "lot", "kept", "changed", "one", "apart", "fixed", "hangs"]
+    simple += [Bench(SMALL, ((0, 1),)), Desk("bench 0\n" + SMALL)]
     nested = [(value,) for value in simple] + [[value] for value in simple]
     nested += [("alike", value) for value in simple] + [("unlike", value) for value in simple]
     nested += [("unlike", ((0, 1),)), ("unlike", [(0, 1)]), (("m", (0, 1)),), {"m": (0, 1)}, ("alike", "alike")]
     nested += [((("m", (0, 1)),),), [("m", (0, 1))], ("m", (0, 1)), ((("m",), (0, 1)),), {("alike",): 1}]
-    return simple + nested
+    nested += [(word, value) for word in words for value in simple]
+    return simple + nested + [(word, value, value) for word in words for value in simple]
 
 
 def bent(value, circuit):
     """Values that are the right one but for one place, at any depth, where something has another form or kind."""
-    yield from [None, [value], {0: value}, circuit]
+    yield from [[value], {0: value}, circuit] + ([] if value is None else [None])
     if isinstance(value, tuple):
         yield from [list(value), value + (None,), (value,), dict(enumerate(value))]
         if value:
@@ -307,6 +329,8 @@ NO_FRACTIONS = [
     0, 1, True, None, "1", "1/2", (), (1,), (1, 2, 3), [1, 2], (2, 4), (0, 2), (1, 0), (0, 0), (1, -1), (-1, -2),
     (True, 1), (1, True), (False, True), (1, "2"), ("1", 2), ((1, 1), 1), (None, 1), (1, None), {}, ((1, 1),),
 ]
+
+BELOW_NOUGHT = [(-1, 1), (-1, 2), (-10 ** 12 + 1, 7)]
 
 # Of a circuit of two parts.
 NO_ROWS_OF_TWO = [

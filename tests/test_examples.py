@@ -5,7 +5,10 @@ import pathlib
 import unittest
 
 HERE = pathlib.Path(__file__).parent
-SECTIONS = ["circuits", "cycles", "errors", "joinings", "rests", "scripts", "sums"]
+SECTIONS = [
+    "bench", "circuits", "cycles", "desk", "errors", "joinings", "loads", "looks", "quickness", "rests", "scripts",
+    "sizes", "sums",
+]
 EXAMPLES = sorted((HERE / "examples").glob("*.txt"))
 
 

@@ -52,6 +52,54 @@ FUNCTIONS = {
         "lost_in_cycle": ["circuit", "script"],
         "supplied": ["circuit", "script"],
     },
+    "quickness": {
+        "holds": ["circuit", "script", "rate"],
+        "shows_holds": ["circuit", "script", "rate", "value"],
+        "quickness": ["circuit", "script", "within"],
+        "shows_quickness": ["circuit", "script", "within", "value"],
+        "finite": ["circuit", "script"],
+        "shows_finite": ["circuit", "script", "value"],
+    },
+    "looks": {
+        "unseen": ["circuit", "seen"],
+        "alike": ["circuit", "seen", "one", "other"],
+        "shows_alike": ["circuit", "seen", "one", "other", "value"],
+        "can_tell": ["circuit", "seen", "row"],
+        "shows_can_tell": ["circuit", "seen", "row", "value"],
+    },
+    "sizes": {
+        "with_sizes": ["circuit", "sizes"],
+        "fixed_parts": ["circuit"],
+        "for_all_sizes": ["circuit", "standing"],
+        "shows_for_all_sizes": ["circuit", "standing", "value"],
+    },
+    "loads": {
+        "loaded": ["circuit", "joining", "junction", "charge", "standing"],
+        "loaded_cycle": ["circuit", "script", "load", "standing"],
+        "slope": ["circuit", "script", "number", "junction"],
+    },
+    "journals": {
+        "journal": ["bench"],
+        "read_journal": ["text"],
+    },
+}
+
+BENCH_METHODS = {
+    "join": ["joining"],
+    "turn": ["script"],
+    "put": ["part", "voltage"],
+    "size": ["part", "size"],
+    "source": ["source", "voltage"],
+    "rest": [],
+    "left": [],
+    "worth": ["row"],
+    "undo": [],
+    "redo": [],
+    "trial": [],
+    "keep": [],
+    "tried": ["look", "keep"],
+    "copy": [],
+    "__eq__": ["other"],
 }
 
 
@@ -78,6 +126,29 @@ class Interface(unittest.TestCase):
         circuit = held.Circuit(text="circuit\npart a 1\njoining j")
         for name in ("text", "sources", "parts", "joinings"):
             self.assertIn(name, vars(circuit))
+
+    def test_bench_class(self):
+        held = importlib.import_module("chargeturns.bench")
+        self.assertEqual(held.Bench.__module__, "chargeturns.bench")
+        self.assertEqual(list(inspect.signature(held.Bench).parameters), ["text", "standing"])
+        for name, parameters in BENCH_METHODS.items():
+            method = vars(held.Bench)[name]
+            self.assertTrue(inspect.isfunction(method))
+            self.assertEqual(list(inspect.signature(method).parameters), ["self"] + parameters)
+        told = inspect.signature(held.Bench.tried).parameters["keep"]
+        self.assertEqual((told.kind, told.default), (inspect.Parameter.KEYWORD_ONLY, False))
+        bench = held.Bench(standing=((0, 1),), text="circuit\npart a 1\njoining j")
+        for name in ("circuit", "standing", "lost", "done"):
+            self.assertTrue(hasattr(bench, name))
+            self.assertRaises(AttributeError, setattr, bench, name, None)
+
+    def test_desk_class(self):
+        held = importlib.import_module("chargeturns.desk")
+        self.assertEqual(held.Desk.__module__, "chargeturns.desk")
+        self.assertEqual(list(inspect.signature(held.Desk).parameters), ["text"])
+        self.assertEqual(list(inspect.signature(vars(held.Desk)["say"]).parameters), ["self", "line"])
+        desk = held.Desk(text="bench 0\ncircuit\npart a 1\njoining j")
+        self.assertIs(type(desk.bench), importlib.import_module("chargeturns.bench").Bench)
 
     def test_error_classes_are_defined_in_their_file(self):
         held = importlib.import_module("chargeturns.errors")

@@ -15,20 +15,22 @@ NODES = {
     "Attribute", "Subscript", "Slice", "Call", "keyword", "Starred", "IfExp", "ListComp", "DictComp", "SetComp",
     "comprehension", "JoinedStr", "FormattedValue", "Compare", "BoolOp", "And", "Or", "UnaryOp", "Not", "USub",
     "BinOp", "Add", "Sub", "Mult", "FloorDiv", "Mod", "Eq", "NotEq", "Lt", "LtE", "Gt", "GtE", "Is", "IsNot", "In",
-    "NotIn",
+    "NotIn", "With", "withitem", "Try", "ExceptHandler",
 }
 BUILTINS = {
     "len", "range", "enumerate", "zip", "min", "max", "sum", "abs", "sorted", "reversed", "int", "str", "bool", "list",
-    "tuple", "dict", "isinstance", "any", "all", "divmod", "ValueError",
+    "tuple", "dict", "isinstance", "any", "all", "divmod", "ValueError", "property",
 }
 METHODS = {
     "append", "clear", "copy", "count", "endswith", "extend", "find", "get", "index", "insert", "items", "join", "keys",
-    "partition", "pop", "remove", "replace", "reverse", "setdefault", "split", "startswith", "update", "values",
+    "partition", "pop", "remove", "replace", "reverse", "setdefault", "split", "startswith", "update", "values", "zfill",
 }
 # Shells and doctest leave a name `_` among the builtins, which is none.
 PYTHON_NAMES = set(dir(builtins)) - {"_"}
 LIBRARY = {"math": {"gcd", "lcm", "isqrt", "comb", "perm", "factorial"}, "itertools": {"product", "combinations"}}
-DOUBLE = {"__init__", "__len__", "__eq__"}
+DOUBLE = {"__init__", "__len__", "__eq__", "__enter__", "__exit__"}
+# Methods and attributes of Python's own values; own ones may be called as those of strings and lists in METHODS.
+PYTHON_ATTRIBUTES = {name for kind in (str, int, list, dict, set, tuple, bytes) for name in dir(kind)}
 BARRED_WORDS = re.compile(
     r"\b(type|typing|enum|Enum|Flag|Generic|Protocol|ABC|namedtuple|NamedTuple|abstractmethod|_wall|_WallAttr)\b"
     r"|dataclass|overload|contextmanager"
@@ -58,7 +60,26 @@ def functions_of(tree):
 def names_bound_in(function):
     """Parameters and variables of a function."""
     stored = [node.id for node in ast.walk(function) if isinstance(node, ast.Name) and isinstance(node.ctx, ast.Store)]
-    return [parameter.arg for parameter in function.args.args] + stored
+    return [parameter.arg for parameter in function.args.args + function.args.kwonlyargs] + stored
+
+
+def classes_of(tree):
+    return [node for node in tree.body if isinstance(node, ast.ClassDef)]
+
+
+def methods_of(told):
+    return [node for node in told.body if isinstance(node, ast.FunctionDef)]
+
+
+def attributes_of(tree, context):
+    """The names of all attributes that are read (ast.Load) or assigned (ast.Store)."""
+    return [node.attr for node in ast.walk(tree) if isinstance(node, ast.Attribute) and isinstance(node.ctx, context)]
+
+
+def all_methods():
+    """The names of all methods of the package, and of those that are properties."""
+    found = [node for tree in trees().values() for told in classes_of(tree) for node in methods_of(told)]
+    return {node.name for node in found}, {node.name for node in found if node.decorator_list}
 
 
 class Language(unittest.TestCase):
@@ -96,7 +117,9 @@ class Language(unittest.TestCase):
         for tree in trees().values():
             for function in functions_of(tree):
                 self.assertLessEqual(function.end_lineno - function.lineno + 1, 40)
-                self.assertEqual((function.decorator_list, function.returns), ([], None))
+                self.assertEqual(function.returns, None)
+                self.assertIn([told.id for told in function.decorator_list], ([], ["property"]))
+                self.assertTrue(not function.args.vararg and not function.args.kwarg and not function.args.posonlyargs)
                 self.assertTrue(all(parameter.annotation is None for parameter in function.args.args))
                 self.assertTrue(not function.name.startswith("__") or function.name in DOUBLE)
 
@@ -153,10 +176,55 @@ class Language(unittest.TestCase):
             self.assertIsNone(BARRED_WORDS.search(code))
 
     def test_methods(self):
+        own, properties = all_methods()
+        self.assertEqual(own & PYTHON_ATTRIBUTES - METHODS - DOUBLE, set())
         for tree in trees().values():
             calls = [node.func for node in ast.walk(tree) if isinstance(node, ast.Call)]
             called = {function.attr for function in calls if isinstance(function, ast.Attribute)}
-            self.assertEqual(called - METHODS, set())
+            self.assertEqual(called - METHODS - own, set())
+            self.assertEqual(called & (properties | DOUBLE), set())
+
+    def test_attributes_are_no_methods(self):
+        own, properties = all_methods()
+        assigned = {name for tree in trees().values() for name in attributes_of(tree, ast.Store)}
+        self.assertEqual(assigned & (own | PYTHON_ATTRIBUTES), set())
+        for tree in trees().values():
+            calls = [node.func for node in ast.walk(tree) if isinstance(node, ast.Call)]
+            called = [function.attr for function in calls if isinstance(function, ast.Attribute)]
+            # What is read is an attribute that some class assigns, a property, or a method that is called on the spot.
+            for name in set(attributes_of(tree, ast.Load)) - assigned - properties:
+                self.assertEqual(attributes_of(tree, ast.Load).count(name), called.count(name), name)
+
+    def test_defaults_are_plain(self):
+        for tree in trees().values():
+            for function in functions_of(tree):
+                for value in function.args.defaults + [told for told in function.args.kw_defaults if told]:
+                    ast.literal_eval(value)
+
+    def test_only_own_errors_are_raised_and_caught(self):
+        errors = set(defined_in(ast.parse((PACKAGE / "errors.py").read_text(encoding="utf-8"))))
+        for tree in trees().values():
+            for node in ast.walk(tree):
+                if isinstance(node, ast.ExceptHandler):
+                    self.assertIn(node.type.id, errors)
+                if isinstance(node, ast.Raise):
+                    self.assertIn(node.exc.func.id, errors)
+                if isinstance(node, ast.Try):
+                    self.assertEqual((node.finalbody, node.orelse), ([], []))
+
+    def test_the_end_of_a_block_is_plain(self):
+        plain = (
+            ast.Assign, ast.If, ast.Name, ast.Attribute, ast.Compare, ast.Is, ast.IsNot, ast.BoolOp, ast.Or, ast.And,
+            ast.UnaryOp, ast.Not, ast.Constant, ast.Load, ast.Store,
+        )
+        ends = [node for tree in trees().values() for node in functions_of(tree) if node.name == "__exit__"]
+        self.assertEqual(len(ends), 1)
+        for end in ends:
+            self.assertEqual([parameter.arg for parameter in end.args.args], ["self", "kind", "value", "trace"])
+            for row in end.body:
+                self.assertTrue(all(isinstance(node, plain) for node in ast.walk(row)))
+            read = [node.id for row in end.body for node in ast.walk(row) if isinstance(node, ast.Name)]
+            self.assertEqual(set(read) & {"value", "trace"}, set())
 
     def test_keywords_of_builtins(self):
         for tree in trees().values():
