@@ -1,6 +1,6 @@
 """A bench: a circuit with its voltages, under hands, whose deeds can be taken back and tried."""
 
-from chargeturns.checks import check_joining, check_part, check_script, check_standing, names_of
+from chargeturns.checks import check_joining, check_part, check_standing, names_of
 from chargeturns.circuits import Circuit, with_size, with_source
 from chargeturns.errors import BadVoltage, NothingToRedo, NothingToUndo, NoTrial
 from chargeturns.ratios import ZERO, is_fraction, plus, total
@@ -79,7 +79,6 @@ class Bench:
 
     def turn(self, script):
         """Does all joinings of the script, as one deed."""
-        check_script(self.circuit, script)
         self._do_script(("turn", script), script)
 
     def put(self, part, voltage):

@@ -40,9 +40,9 @@ def _read_first(line):
 
 
 def _end_of_circuit(lines):
-    """How many lines stand ahead of the first deed's."""
+    """How many lines stand ahead of the first deed's; a journal's first line is none."""
     for number, line in enumerate(lines):
-        if number > 0 and line.split(" ")[0] in DEED_WORDS:
+        if line.split(" ")[0] in DEED_WORDS:
             return number
     return len(lines)
 

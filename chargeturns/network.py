@@ -60,9 +60,9 @@ def drawn(circuit, joining, charges):
 
 
 def settled_potentials(circuit, ties, standing, taken):
-    """The potentials of all junctions, by name, at which to each free one comes less what is taken there.
+    """The potentials of all junctions, by name, at which nothing comes to free ones but the contrary of what is taken.
 
-    What is taken is told by junction, as a dict; at junctions that it does not name it is nothing.
+    What is taken is a dict by junction; at junctions that it does not name it is nothing.
     """
     free = free_junctions(circuit, ties)
     potential = given_potentials(circuit)
