@@ -17,7 +17,8 @@ class Trial:
         self.outer = None
         self.past = ()
         self.future = ()
-        self.kept = False
+        # None as long as it is not kept: the end of a block may ask an attribute for None alone, not for its truth.
+        self.kept = None
 
     def __enter__(self):
         bench = self.bench
@@ -30,7 +31,7 @@ class Trial:
     def __exit__(self, kind, value, trace):
         bench = self.bench
         bench.block = self.outer
-        if kind is not None or not self.kept:
+        if kind is not None or self.kept is None:
             bench.past = self.past
             bench.future = self.future
 

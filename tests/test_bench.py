@@ -420,6 +420,107 @@ class Trials(Refusing):
             self.assertEqual(all_of(bench), ahead)
             self.refused(NoTrial, None, bench.keep)
 
+    def test_left_by_an_error_kept_or_not(self):
+        for error in (ValueError("x"), NoTrial(None), KeyboardInterrupt(), StopIteration(1)):
+            for keeps in range(4):
+                bench = a_bench()
+                ahead = all_of(bench)
+                with self.assertRaises(type(error)) as caught:
+                    with bench.trial():
+                        bench.join("share")
+                        for _ in range(keeps):
+                            bench.keep()
+                        raise error
+                self.assertIs(caught.exception, error)
+                self.assertEqual(all_of(bench), ahead)
+                self.refused(NoTrial, None, bench.keep)
+
+    def test_left_by_return_and_break(self):
+        def returned(bench, kept):
+            with bench.trial():
+                bench.join("share")
+                if kept:
+                    bench.keep()
+                return bench.done
+
+        def broken(bench, kept):
+            while True:
+                with bench.trial():
+                    bench.join("share")
+                    if kept:
+                        bench.keep()
+                    break
+            return 3
+
+        for leave in (returned, broken):
+            for kept in (False, True):
+                bench = a_bench()
+                self.assertEqual(leave(bench, kept), 3)
+                self.assertEqual(bench.done, 3 if kept else 2)
+                self.refused(NoTrial, None, bench.keep)
+
+    def test_an_error_that_leaves_two_blocks(self):
+        for inner in (False, True):
+            bench = a_bench()
+            ahead = all_of(bench)
+            with self.assertRaises(NoJoining):
+                with bench.trial():
+                    bench.keep()
+                    with bench.trial():
+                        bench.join("share")
+                        if inner:
+                            bench.keep()
+                        bench.join("nowhere")
+            self.assertEqual(all_of(bench), ahead)
+            self.refused(NoTrial, None, bench.keep)
+
+    def test_an_error_behind_an_inner_block_that_is_kept(self):
+        for outer in (False, True):
+            bench = a_bench()
+            ahead = all_of(bench)
+            with self.assertRaises(ValueError):
+                with bench.trial():
+                    with bench.trial():
+                        bench.join("share")
+                        bench.keep()
+                    self.assertEqual(bench.done, 3)
+                    if outer:
+                        bench.keep()
+                    raise ValueError("behind")
+            self.assertEqual(all_of(bench), ahead)
+
+    def test_blocks_one_behind_the_other(self):
+        bench = Bench(TEXT, EMPTY)
+        for kept in (True, False, False, True, True, False):
+            ahead = bench.done
+            with bench.trial():
+                bench.join("idle")
+                if kept:
+                    bench.keep()
+                    bench.keep()
+            self.assertEqual(bench.done, ahead + kept)
+        self.assertEqual(bench.done, 3)
+
+    def test_three_deep(self):
+        for number in range(8):
+            kept = [number // 4 == 1, number // 2 % 2 == 1, number % 2 == 1]
+            bench = Bench(TEXT, EMPTY)
+            with bench.trial():
+                bench.join("up")
+                with bench.trial():
+                    bench.join("share")
+                    with bench.trial():
+                        bench.join("idle")
+                        if kept[2]:
+                            bench.keep()
+                    if kept[1]:
+                        bench.keep()
+                if kept[0]:
+                    bench.keep()
+            deeds = ["join up"] + (["join share"] + ["join idle"] * kept[2]) * kept[1]
+            self.assertEqual(journal(bench).split("\n")[11:], deeds * kept[0])
+            self.refused(NoTrial, None, bench.keep)
+
     def test_an_error_within_an_inner_block(self):
         bench = Bench(TEXT, EMPTY)
         with bench.trial():
